@@ -1,0 +1,1 @@
+"""Creasecourt: creased sheets, judged corner by corner and pile by pile."""
