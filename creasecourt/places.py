@@ -11,6 +11,15 @@ FOUR_QUARTERS = ((0, 1), (-1, 0), (0, -1), (1, 0))
 HALF_EDGE = {"level": (2, 0), "upright": (0, 2), "falling": (1, 1), "rising": (1, -1)}
 
 
+# To Python True and False are ints too; here they are no whole numbers.
+def is_whole(value):
+    return isinstance(value, int) and not isinstance(value, bool)
+
+
+def is_place(value):
+    return isinstance(value, tuple) and len(value) == 2 and is_whole(value[0]) and is_whole(value[1])
+
+
 def is_corner(place):
     return place[0] % 2 == 0 and place[0] % 4 == place[1] % 4
 
