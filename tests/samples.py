@@ -139,3 +139,128 @@ def small_good_creases():
                 if not is_barred_by_hand(edges, (4, 4)):
                     told.append(sorted(edges))
     return told
+
+
+def good_sheets():
+    """Sheets without barred corners, of many sizes, with open marks."""
+    chance = Chance(20)
+    told = [open_sheet(2, 2, edges) for edges in small_good_creases()[::9]]
+    for wide, high in [(1, 1), (2, 1), (1, 3), (3, 2), (3, 3), (4, 2)]:
+        for unused in range(6):
+            edges = some_good_creases(wide, high, chance)
+            if edges is not None:
+                told.append(open_sheet(wide, high, edges))
+    told += [open_sheet(wide, high, []) for wide, high in [(1, 1), (6, 1), (6, 6)]]
+    told += [all_creased(wide, high) for wide, high in [(1, 1), (1, 6), (3, 3), (6, 6)]]
+    return told
+
+
+def mirrored_by_hand(place, edge):
+    """Point 8."""
+    x, y = place
+    i, j = edge
+    return {
+        "L": (x, 2 * j - y), "U": (2 * i - x, y), "F": (y + i - j, x - i + j), "R": (i + j - y, i + j - x),
+    }[signs_of(edge)]
+
+
+def led_by_hand(laying, place):
+    a, b, c, d, e, f = laying
+    x, y = place
+    return (a * x + b * y + e, c * x + d * y + f)
+
+
+def with_behind(layings, behind):
+    """All these layings with one and the same laying behind each."""
+    told = {}
+    for quarter, laying in layings.items():
+        start, right, down = [led_by_hand(behind, led_by_hand(laying, place)) for place in [(0, 0), (1, 0), (0, 1)]]
+        told[quarter] = (
+            right[0] - start[0], down[0] - start[0], right[1] - start[1], down[1] - start[1], start[0], start[1],
+        )
+    return told
+
+
+# Turned, moved, turned over, far off.
+BEHIND = [
+    (0, -1, 1, 0, 8, 0), (-1, 0, 0, 1, 0, 0), (0, 1, 1, 0, 4, -4), (1, 0, 0, 1, 4 * 10 ** 59, -4 * 10 ** 59),
+    (-1, 0, 0, -1, 8, 8), (0, -1, -1, 0, 4, 4),
+]
+
+
+def hand_by_hand(place, edge):
+    sign = signs_of(edge)
+    number, own = [
+        {"L": y, "U": x, "F": x - y, "R": x + y}[sign] for x, y in (edge, place)
+    ]
+    return (own > number) - (own < number)
+
+
+def folded_by_hand(wide, high, folds):
+    """Layings and piles behind folds (edge, ahead, over), as point 29 tells them; None where one is refused."""
+    layings = {quarter: (1, 0, 0, 1, 0, 0) for quarter in quarters_by_hand(wide, high)}
+    piles = {quarter: [quarter] for quarter in layings}
+    for edge, ahead, over in folds:
+        side = 1 if ahead else -1
+        if {hand_by_hand(place, edge) for place in piles} != {1, -1}:
+            return None
+        start, right, down = [mirrored_by_hand(place, edge) for place in [(0, 0), (1, 0), (0, 1)]]
+        mirror = (
+            right[0] - start[0], down[0] - start[0], right[1] - start[1], down[1] - start[1], start[0], start[1],
+        )
+        moved = {quarter for place, pile in piles.items() if hand_by_hand(place, edge) == side for quarter in pile}
+        turned = with_behind({quarter: layings[quarter] for quarter in moved}, mirror)
+        coming = {
+            mirrored_by_hand(place, edge): pile[::-1]
+            for place, pile in piles.items() if hand_by_hand(place, edge) == side
+        }
+        piles = {place: list(pile) for place, pile in piles.items() if hand_by_hand(place, edge) == -side}
+        for place, pile in coming.items():
+            there = piles.get(place, [])
+            piles[place] = there + pile if over else pile + there
+        layings.update(turned)
+    return layings, piles
+
+
+def sheet_by_hand(wide, high, layings, piles):
+    """The sheet of a folding, by points 26 and 30."""
+    marks = {}
+    for edge in edges_by_hand(wide, high):
+        one, other = sides_by_hand(edge)
+        if layings[one] == layings[other]:
+            continue
+        a, b, c, d = layings[one][:4]
+        turned, straight = (one, other) if a * d - b * c == -1 else (other, one)
+        pile = piles[led_by_hand(layings[one], one)]
+        marks[edge] = "v" if pile.index(turned) > pile.index(straight) else "h"
+    return sheet(wide, high, marks)
+
+
+def some_folds(wide, high, count, chance):
+    """Folds, as chance will, none of which is refused; perhaps fewer than count."""
+    folds = []
+    layings, piles = folded_by_hand(wide, high, folds)
+    for unused in range(count * 8):
+        xs, ys = zip(*piles)
+        near = [
+            (x, y) for x in range(min(xs) - 1, max(xs) + 2) for y in range(min(ys) - 1, max(ys) + 2)
+            if signs_of((x, y)) in "LUFR"
+        ]
+        fold = (chance.one_of(near), chance.below(2) == 0, chance.below(2) == 0)
+        done = folded_by_hand(wide, high, folds + [fold])
+        if done is not None and len(folds) < count:
+            folds.append(fold)
+            layings, piles = done
+    return folds
+
+
+def some_foldings():
+    """Tuples (wide, high, folds, layings, piles, sheet) of foldings as chance will."""
+    chance = Chance(29)
+    told = []
+    for wide, high in [(1, 1), (2, 1), (1, 2), (2, 2), (3, 2), (2, 4), (4, 4), (6, 5)]:
+        for count in (1, 2, 3, 5):
+            folds = some_folds(wide, high, count, chance)
+            layings, piles = folded_by_hand(wide, high, folds)
+            told.append((wide, high, folds, layings, piles, sheet_by_hand(wide, high, layings, piles)))
+    return told
