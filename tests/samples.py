@@ -110,20 +110,53 @@ def first_barred_by_hand(wide, high, edges):
 CENTRE_CHOICES = [(), (0, 2), (1, 3), (0, 1, 2, 3)]
 
 
-def some_good_creases(wide, high, chance, tries=2000):
-    """Edges, as chance will, that leave no inner corner barred; None where too many tries failed."""
-    edges = set()
+def parts_of(wide, high):
+    """What is chosen together: the edges round each square's centre by point 14, and each straight edge alone."""
+    parts = {}
     for x in range(2, 4 * wide, 4):
         for y in range(2, 4 * high, 4):
-            chosen = chance.one_of(CENTRE_CHOICES + [(), ()])
-            edges |= {round_by_hand((x, y))[k] for k in chosen}
-    straight = [edge for edge in edges_by_hand(wide, high) if signs_of(edge) in "LU"]
+            around = round_by_hand((x, y))
+            parts[(x, y)] = [[around[k] for k in chosen] for chosen in CENTRE_CHOICES]
+    for edge in edges_by_hand(wide, high):
+        if signs_of(edge) in "LU":
+            parts[edge] = [[], [edge]]
+    return parts
+
+
+def parts_round(corner):
+    x, y = corner
+    return [(x + i, y + j) for i, j in [(-2, -2), (-2, 2), (2, -2), (2, 2), (2, 0), (0, 2), (-2, 0), (0, -2)]]
+
+
+def some_good_creases(wide, high, chance, spread=6):
+    """Edges, as chance will, that leave no inner corner barred; the fewer, the less the spread."""
+    parts = parts_of(wide, high)
     corners = [corner for corner in corners_by_hand(wide, high) if corner[0] % 4 == 0]
-    for unused in range(tries):
-        chosen = edges | {edge for edge in straight if chance.below(3) == 0}
-        if not any(is_barred_by_hand(chosen, corner) for corner in corners):
-            return sorted(chosen)
-    return None
+
+    def chosen_for(names, edges):
+        """All choices for these parts, those with few edges rather ahead."""
+        made = [[]]
+        for name in names:
+            made = [one + more for one in made for more in parts[name]]
+        keyed = [(len(one) + chance.below(spread), number) for number, one in enumerate(made)]
+        return [edges + made[number] for key, number in sorted(keyed)]
+
+    def completed(number, decided, edges):
+        if number == len(corners):
+            names = [name for name in parts if name not in decided]
+            for name in names:
+                edges = edges + chance.one_of(parts[name])
+            return edges
+        corner = corners[number]
+        names = [name for name in parts_round(corner) if name not in decided]
+        for longer in chosen_for(names, edges):
+            if not is_barred_by_hand(longer, corner):
+                done = completed(number + 1, decided | set(names), longer)
+                if done is not None:
+                    return done
+        return None
+
+    return sorted(completed(0, set(), []))
 
 
 def small_good_creases():
@@ -145,11 +178,9 @@ def good_sheets():
     """Sheets without barred corners, of many sizes, with open marks."""
     chance = Chance(20)
     told = [open_sheet(2, 2, edges) for edges in small_good_creases()[::9]]
-    for wide, high in [(1, 1), (2, 1), (1, 3), (3, 2), (3, 3), (4, 2)]:
-        for unused in range(6):
-            edges = some_good_creases(wide, high, chance)
-            if edges is not None:
-                told.append(open_sheet(wide, high, edges))
+    for wide, high in [(1, 1), (2, 1), (1, 3), (3, 2), (3, 3), (5, 4)]:
+        for spread in (4, 8, 12, 16, 30, 60):
+            told.append(open_sheet(wide, high, some_good_creases(wide, high, chance, spread)))
     told += [open_sheet(wide, high, []) for wide, high in [(1, 1), (6, 1), (6, 6)]]
     told += [all_creased(wide, high) for wide, high in [(1, 1), (1, 6), (3, 3), (6, 6)]]
     return told
@@ -264,3 +295,92 @@ def some_foldings():
             layings, piles = folded_by_hand(wide, high, folds)
             told.append((wide, high, folds, layings, piles, sheet_by_hand(wide, high, layings, piles)))
     return told
+
+
+def marked_at_chance(sheet, chance, bound=2):
+    """The sheet with some of its marks made h or v, as chance will."""
+    creases = [(edge, chance.one_of("hv") if not chance.below(bound) else "o") for edge, mark in sheet[2]]
+    return (sheet[0], sheet[1], tuple(creases))
+
+
+def heights_by_hand(piles):
+    return {quarter: height for pile in piles.values() for height, quarter in enumerate(pile)}
+
+
+def crossing_by_hand(sheet, layings, piles):
+    """Point 25, pair by pair, case by case."""
+    wide, high, creases = sheet
+    marked = dict(creases)
+    height = heights_by_hand(piles)
+    laid_at = {}
+    sides = {}
+    for edge in edges_by_hand(wide, high):
+        sides[edge] = [(quarter, led_by_hand(layings[quarter], quarter)) for quarter in sides_by_hand(edge)]
+        laid_at[edge] = led_by_hand(layings[sides[edge][0][0]], edge)
+
+    def between(quarter, one, other):
+        return min(height[one], height[other]) < height[quarter] < max(height[one], height[other])
+
+    for edge, other in itertools.combinations(sorted(laid_at), 2):
+        if laid_at[edge] != laid_at[other]:
+            continue
+        if edge in marked and other in marked:
+            (s, at), (s2, at2) = sides[edge]
+            (t, there), (t2, there2) = sides[other]
+            assert at == at2 and there == there2
+            if at == there and between(t, s, s2) != between(t2, s, s2):
+                return (edge, other)
+        elif edge in marked or other in marked:
+            crease, plain = (edge, other) if edge in marked else (other, edge)
+            (s, at), (s2, at2) = sides[crease]
+            (t,) = [quarter for quarter, place in sides[plain] if place == at]
+            if between(t, s, s2):
+                return (edge, other)
+        else:
+            (s, at), (s2, at2) = sides[edge]
+            (t,) = [quarter for quarter, place in sides[other] if place == at]
+            (t2,) = [quarter for quarter, place in sides[other] if place == at2]
+            if (height[s] < height[t]) != (height[s2] < height[t2]):
+                return (edge, other)
+    return None
+
+
+def marks_by_hand(sheet, layings, piles):
+    told = []
+    height = heights_by_hand(piles)
+    for edge, mark in sheet[2]:
+        one, other = sides_by_hand(edge)
+        a, b, c, d = layings[one][:4]
+        turned, straight = (one, other) if a * d - b * c == -1 else (other, one)
+        told.append((edge, "v" if height[turned] > height[straight] else "h"))
+    return told
+
+
+def stacks_by_hand(layings):
+    told = {}
+    for quarter in sorted(layings):
+        told.setdefault(led_by_hand(layings[quarter], quarter), []).append(quarter)
+    return told
+
+
+def some_piles(layings, chance):
+    return {place: chance.shuffled(quarters) for place, quarters in stacks_by_hand(layings).items()}
+
+
+def piles_by_faces(layings, faces, order):
+    """Piles in which faces lie in this order, from the lowest up, wherever they share a place."""
+    rank = {quarter: order.index(number) for number, face in enumerate(faces) for quarter in face}
+    return {
+        place: sorted(quarters, key=lambda quarter: rank[quarter])
+        for place, quarters in stacks_by_hand(layings).items()
+    }
+
+
+# One square wider than sheets are made: there, and on no sheet of up to 6 squares each way, ties alone
+# make a round, a hexagon with one corner of an eighth and five of three eighths of a turn.
+HEXAGON = open_sheet(7, 5, [
+    (1, 7), (1, 9), (3, 5), (3, 11), (4, 2), (5, 5), (5, 13), (6, 4), (7, 7), (7, 15), (9, 9), (9, 17), (10, 4),
+    (11, 11), (11, 19), (13, 13), (13, 19), (14, 4), (15, 15), (15, 17), (16, 18), (18, 4), (18, 16), (20, 2),
+    (20, 18), (21, 3), (21, 5), (21, 15), (21, 17), (23, 1), (23, 7), (23, 13), (23, 19), (24, 10), (25, 7),
+    (25, 13), (26, 8), (26, 12), (27, 5), (27, 15),
+])

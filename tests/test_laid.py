@@ -71,13 +71,6 @@ class Point20(unittest.TestCase):
         self.assertEqual(taken.exception.corner, (6, 2))
 
 
-def stacks_by_hand(layings):
-    told = {}
-    for quarter in sorted(layings):
-        told.setdefault(samples.led_by_hand(layings[quarter], quarter), []).append(quarter)
-    return told
-
-
 def edges_laid_by_hand(sheet, layings):
     told = {}
     for edge in samples.edges_by_hand(sheet[0], sheet[1]):
@@ -94,7 +87,7 @@ class StacksAndEdges(unittest.TestCase):
             layings = laid(sheet)
             behind = samples.BEHIND[number % len(samples.BEHIND)]
             for such in (layings, samples.with_behind(layings, behind)):
-                self.assertEqual(stacks(such), stacks_by_hand(such))
+                self.assertEqual(stacks(such), samples.stacks_by_hand(such))
                 self.assertEqual(edges_laid(sheet, such), edges_laid_by_hand(sheet, such))
 
     def test_of_foldings_whatever_the_marks(self):
@@ -102,7 +95,7 @@ class StacksAndEdges(unittest.TestCase):
             opened = samples.open_sheet(wide, high, dict(sheet[2]))
             self.assertEqual(stacks(layings), {place: sorted(pile) for place, pile in piles.items()})
             for such in (layings, samples.with_behind(layings, samples.BEHIND[0])):
-                self.assertEqual(stacks(such), stacks_by_hand(such))
+                self.assertEqual(stacks(such), samples.stacks_by_hand(such))
                 self.assertEqual(edges_laid(sheet, such), edges_laid_by_hand(sheet, such))
                 self.assertEqual(edges_laid(opened, such), edges_laid_by_hand(sheet, such))
 
