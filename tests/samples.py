@@ -384,3 +384,113 @@ HEXAGON = open_sheet(7, 5, [
     (20, 18), (21, 3), (21, 5), (21, 15), (21, 17), (23, 1), (23, 7), (23, 13), (23, 19), (24, 10), (25, 7),
     (25, 13), (26, 8), (26, 12), (27, 5), (27, 15),
 ])
+
+
+def ties_by_hand(sheet):
+    told = []
+    for corner in corners_by_hand(sheet[0], sheet[1]):
+        creases = [edge for edge in round_by_hand(corner) if edge in dict(sheet[2])]
+        count = len(creases)
+        around = round_by_hand(corner)
+        at = [around.index(edge) * 8 // len(around) for edge in creases]
+        gaps = [(at[(k + 1) % count] - at[k] - 1) % 8 + 1 for k in range(count)]
+        found = [(creases[0], creases[1], True)] if count == 2 else []
+        for k in range(count):
+            if count >= 4 and gaps[k] < gaps[k - 1] and gaps[k] < gaps[(k + 1) % count]:
+                found.append((creases[k], creases[(k + 1) % count], False))
+                if count == 4:
+                    found.append((creases[k - 2], creases[k - 1], True))
+        told += [(min(one, other), max(one, other), alike, corner) for one, other, alike in found]
+    return sorted(set(told))
+
+
+def is_chain(sheet, steps):
+    """Whether each step is a tie, or one with its edges exchanged, and begins where the one ahead leads."""
+    told = ties_by_hand(sheet)
+    for edge, other, alike, corner in steps:
+        if (min(edge, other), max(edge, other), alike, corner) not in told:
+            return False
+    return all(ahead[1] == behind[0] for ahead, behind in zip(steps, steps[1:]))
+
+
+def tells_alike(steps):
+    return sum(not step[2] for step in steps) % 2 == 0
+
+
+def is_round(sheet, steps):
+    """Point 22."""
+    if type(steps) is not list or not steps or not is_chain(sheet, steps):
+        return False
+    marks = dict(sheet[2])
+    begin, end = steps[0][0], steps[-1][1]
+    if begin == end:
+        return not tells_alike(steps)
+    if "o" in (marks[begin], marks[end]):
+        return False
+    return (marks[begin] == marks[end]) != tells_alike(steps)
+
+
+class Papers:
+    """Follows papers to all their ends, by point 28; the faces are handed in."""
+
+    def __init__(self, sheet, layings, faces):
+        self.marks = dict(sheet[2])
+        self.layings = layings
+        self.edges = edges_by_hand(sheet[0], sheet[1])
+        self.face = {quarter: number for number, face in enumerate(faces) for quarter in face}
+        self.at = {}
+        for quarter, laying in layings.items():
+            self.at.setdefault(led_by_hand(laying, quarter), []).append(self.face[quarter])
+        self.ends = {"ring": 0, "cross": 0, "mark": 0, "split": 0}
+
+    def holds(self, paper, taken=frozenset()):
+        if type(paper) is not tuple or paper[0] not in self.ends:
+            return False
+        self.ends[paper[0]] += 1
+        return getattr(self, "holds_" + paper[0])(taken, *paper[1:])
+
+    def holds_split(self, taken, f, g, below, above):
+        share = f != g and any(f in there and g in there for there in self.at.values())
+        if not share or (f, g) in taken or (g, f) in taken:
+            return False
+        return self.holds(below, taken | {(f, g)}) and self.holds(above, taken | {(g, f)})
+
+    def holds_ring(self, taken, place, f, g, h):
+        there = self.at.get(place, [])
+        return {f, g, h} <= set(there) and {(f, g), (g, h), (h, f)} <= taken
+
+    def holds_mark(self, taken, edge):
+        one, other = sides_by_hand(edge)
+        a, b, c, d = self.layings[one][:4]
+        turned, straight = (one, other) if a * d - b * c == -1 else (other, one)
+        low, high = (straight, turned) if self.marks[edge] == "h" else (turned, straight)
+        return self.marks[edge] in ("h", "v") and (self.face[low], self.face[high]) in taken
+
+    def sides_at(self, edge):
+        """The edge at which it is laid, and its two quarters' places and faces."""
+        sides = [(led_by_hand(self.layings[quarter], quarter), self.face[quarter]) for quarter in sides_by_hand(edge)]
+        return led_by_hand(self.layings[sides_by_hand(edge)[0]], edge), sides
+
+    def holds_cross(self, taken, edge, other):
+        if not (edge < other and edge in self.edges and other in self.edges):
+            return False
+        (where, ours), (there, theirs) = self.sides_at(edge), self.sides_at(other)
+        if where != there:
+            return False
+        if edge in self.marks and other in self.marks:
+            if ours[0][0] != theirs[0][0]:
+                return False
+            ends, amid = [face for place, face in ours], [face for place, face in theirs]
+        elif edge in self.marks or other in self.marks:
+            crease, plain = (ours, theirs) if edge in self.marks else (theirs, ours)
+            ends = [face for place, face in crease]
+            amid = [face for place, face in plain if place == crease[0][0]]
+        else:
+            return False
+        between = 0
+        for face in amid:
+            for end in ends:
+                if ((face, end) in taken) == ((end, face) in taken):
+                    return False
+            between += ((ends[0], face) in taken) != ((ends[1], face) in taken)
+        return between == 1

@@ -16,33 +16,6 @@ LINE = [(k, k) for k in range(1, 16, 2)]
 BIRD = [(6, 4), (5, 5), (7, 7), (3, 5), (1, 7), (4, 2)]
 
 
-def is_step(sheet, step):
-    edge, other, alike, corner = step
-    return step in ties(sheet) or (other, edge, alike, corner) in ties(sheet)
-
-
-def is_chain(sheet, steps):
-    return all(is_step(sheet, step) for step in steps) and all(
-        ahead[1] == behind[0] for ahead, behind in zip(steps, steps[1:])
-    )
-
-
-def tells_alike(steps):
-    return sum(not step[2] for step in steps) % 2 == 0
-
-
-def is_round(sheet, steps):
-    if type(steps) is not list or not steps or not is_chain(sheet, steps):
-        return False
-    marks = dict(sheet[2])
-    begin, end = steps[0][0], steps[-1][1]
-    if begin == end:
-        return not tells_alike(steps)
-    if "o" in (marks[begin], marks[end]):
-        return False
-    return (marks[begin] == marks[end]) != tells_alike(steps)
-
-
 def carried_by_hand(sheet):
     """Marks put on, tie by tie, until nothing changes; None where two marks come to one crease."""
     marks = dict(sheet[2])
@@ -91,25 +64,25 @@ class Rounds(unittest.TestCase):
             seen[told is not None] = True
             with self.subTest(sheet=sheet):
                 if has_round_by_hand(sheet):
-                    self.assertTrue(is_round(sheet, told), told)
+                    self.assertTrue(samples.is_round(sheet, told), told)
                 else:
                     self.assertIsNone(told)
         self.assertEqual(set(seen), {True, False})
 
     def test_a_round_of_ties_alone(self):
         told = round_of(samples.HEXAGON)
-        self.assertTrue(is_round(samples.HEXAGON, told))
+        self.assertTrue(samples.is_round(samples.HEXAGON, told))
         self.assertEqual(told[0][0], told[-1][1])
         for edge in ((5, 5), (20, 2)):
             marks = dict(samples.HEXAGON[2])
             marks[edge] = "h"
             sheet = samples.sheet(7, 5, marks)
-            self.assertTrue(is_round(sheet, round_of(sheet)))
+            self.assertTrue(samples.is_round(sheet, round_of(sheet)))
 
     def test_a_round_between_two_marked_creases(self):
         for one in "hv":
             sheet = samples.sheet(1, 1, {(1, 1): one, (3, 3): TURN[one]})
-            self.assertTrue(is_round(sheet, round_of(sheet)))
+            self.assertTrue(samples.is_round(sheet, round_of(sheet)))
             self.assertEqual(len(round_of(sheet)), 1)
             self.assertIsNone(round_of(samples.sheet(1, 1, {(1, 1): one, (3, 3): one})))
             self.assertIsNone(round_of(samples.sheet(1, 1, {(1, 1): one, (3, 3): "o"})))
@@ -121,7 +94,7 @@ class Rounds(unittest.TestCase):
         marks[(15, 15)] = "v"
         sheet = samples.sheet(4, 4, marks)
         told = round_of(sheet)
-        self.assertTrue(is_round(sheet, told))
+        self.assertTrue(samples.is_round(sheet, told))
         self.assertEqual(len(told), 7)
         marks[(15, 15)] = "h"
         self.assertIsNone(round_of(samples.sheet(4, 4, marks)))
@@ -134,7 +107,7 @@ class Rounds(unittest.TestCase):
                 marks[(7, 7)] = other
                 sheet = samples.sheet(2, 2, marks)
                 if one == other:
-                    self.assertTrue(is_round(sheet, round_of(sheet)))
+                    self.assertTrue(samples.is_round(sheet, round_of(sheet)))
                 else:
                     self.assertIsNone(round_of(sheet))
 
@@ -160,11 +133,11 @@ class Carried(unittest.TestCase):
                     self.assertEqual(way, [])
                 else:
                     self.assertIs(type(way), list)
-                    self.assertTrue(way and is_chain(sheet, way))
+                    self.assertTrue(way and samples.is_chain(sheet, way))
                     self.assertEqual(way[-1][1], edge)
                     begin = marks[way[0][0]]
                     self.assertIn(begin, ("h", "v"))
-                    self.assertEqual(mark, begin if tells_alike(way) else TURN[begin])
+                    self.assertEqual(mark, begin if samples.tells_alike(way) else TURN[begin])
         self.assertGreater(asked, 60)
 
     def test_over_several_corners(self):

@@ -19,30 +19,12 @@ GOOD_SHEETS = samples.good_sheets()
 BIRD = [(6, 4), (5, 5), (7, 7), (3, 5), (1, 7), (4, 2)]
 
 
-def ties_by_hand(sheet):
-    told = []
-    for corner in samples.corners_by_hand(sheet[0], sheet[1]):
-        creases = [edge for edge in samples.round_by_hand(corner) if edge in dict(sheet[2])]
-        count = len(creases)
-        around = samples.round_by_hand(corner)
-        at = [around.index(edge) * 8 // len(around) for edge in creases]
-        gaps = [(at[(k + 1) % count] - at[k] - 1) % 8 + 1 for k in range(count)]
-        found = [(creases[0], creases[1], True)] if count == 2 else []
-        for k in range(count):
-            if count >= 4 and gaps[k] < gaps[k - 1] and gaps[k] < gaps[(k + 1) % count]:
-                found.append((creases[k], creases[(k + 1) % count], False))
-                if count == 4:
-                    found.append((creases[k - 2], creases[k - 1], True))
-        told += [(min(one, other), max(one, other), alike, corner) for one, other, alike in found]
-    return sorted(set(told))
-
-
 class Point21(unittest.TestCase):
     def test_all_ties_of_many_sheets(self):
         seen = {}
         for sheet in GOOD_SHEETS + [samples.HEXAGON]:
             told = ties(sheet)
-            self.assertEqual(told, ties_by_hand(sheet))
+            self.assertEqual(told, samples.ties_by_hand(sheet))
             for tie in told:
                 seen[tie[2]] = True
         self.assertEqual(set(seen), {True, False})
