@@ -63,10 +63,14 @@ def judged_with(bars, taken, due, order):
     return judged(bars, more, due)
 
 
-# Without rings, no two of a place have equally many below them.
+def count_below(taken, there, face):
+    return len([other for other in there if (other, face) in taken])
+
+
+# Without rings, no two at a place have equally many below them.
 def pile_by(taken, numbers, quarters):
     there = [numbers[quarter] for quarter in quarters]
-    return sorted(quarters, key=lambda quarter: len([face for face in there if (face, numbers[quarter]) in taken]))
+    return sorted(quarters, key=lambda quarter: count_below(taken, there, numbers[quarter]))
 
 
 def piles_by(sheet, layings, taken):

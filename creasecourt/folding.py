@@ -53,15 +53,23 @@ def creased_edges(wide, high, layings):
     return told
 
 
+# The layings and piles ahead of all folds.
+def unfolded(wide, high):
+    layings = {}
+    piles = {}
+    for quarter in quarters_in(wide, high):
+        layings[quarter] = STILL
+        piles[quarter] = [quarter]
+    return (layings, piles)
+
+
 class Folding:
     def __init__(self, wide, high):
         check_size(wide, high)
-        quarters = quarters_in(wide, high)
         self.wide = wide
         self.high = high
-        # Behind each fold the layings and piles, the last ones at the end; so going back is leaving these off.
-        self.states = [(dict([(quarter, STILL) for quarter in quarters]),
-                        dict([(quarter, [quarter]) for quarter in quarters]))]
+        # The layings and piles behind each fold, the last ones at the end: so going back leaves these off.
+        self.states = [unfolded(wide, high)]
 
     def fold(self, edge, ahead=True, over=True):
         now = self.states[-1]

@@ -20,11 +20,14 @@ def heights_in(piles):
     return heights
 
 
+def quarters_at(edge, layings, place):
+    return [quarter for quarter in sides_of(edge) if led(layings[quarter], quarter) == place]
+
+
 # What an edge joins, seen at the edge of the plane at which it is laid: at each of that one's
 # two sides, the quarters of the edge that lie there. A crease has two at one side and none at the other.
-def joined_at(edge, layings, place):
-    laid_at = [(quarter, led(layings[quarter], quarter)) for quarter in sides_of(edge)]
-    return [[quarter for quarter, where in laid_at if where == side] for side in sides_of(place)]
+def joined_at(edge, layings, plane_edge):
+    return [quarters_at(edge, layings, side) for side in sides_of(plane_edge)]
 
 
 def count_between(heights, ends, quarters):
